@@ -1,0 +1,1 @@
+"""Gatepairs: pairing anonymous entries with exits."""
