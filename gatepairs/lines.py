@@ -125,19 +125,3 @@ def gate_lines(log, gate):
     if gate == "entries":
         return log[0]
     return log[1]
-
-
-def other_gate(gate):
-    """The gate that is not this one."""
-    if gate == "entries":
-        return "exits"
-    return "entries"
-
-
-def fitting_numbers(kinds, log, gate, number):
-    """The ascending list of the lines of the other gate that fit this line."""
-    line = gate_lines(log, gate)[number]
-    others = gate_lines(log, other_gate(gate))
-    if gate == "entries":
-        return [other for other in range(len(others)) if fits(kinds, line, others[other])]
-    return [other for other in range(len(others)) if fits(kinds, others[other], line)]

@@ -7,19 +7,36 @@ of the other gate, `holders` holds its partner at this gate or None.
 
 
 def pair_musts(fit_lists, musts, partners, holders):
-    """Give each must line of this gate a partner. Lines of the other gate that have one keep having one.
+    """Give as many of the must lines of this gate a partner as can have one.
 
-    Returns new lists (partners, holders, None), or, if some must line cannot have a partner, (partners, holders,
-    numbers): the ascending list of must lines that fit fewer lines of the other gate than they are.
+    Must lines that have a partner, and lines of the other gate that have one, keep having one. Returns new lists
+    (partners, holders, left_over): the last one holds the must lines that have no partner, in ascending order.
     """
     must = {number: True for number in musts}
+    left_over = []
     for number in musts:
         if partners[number] is None:
-            sources, end, reached = search(fit_lists, must, holders, number)
+            sources, end, _ = search(fit_lists, must, holders, number)
             if end is None:
-                return partners, holders, sorted(reached)
-            partners, holders = exchange(sources, end, partners, holders)
-    return partners, holders, None
+                left_over.append(number)
+            else:
+                partners, holders = exchange(sources, end, partners, holders)
+    return list(partners), list(holders), left_over
+
+
+def rivals(fit_lists, musts, holders, starts):
+    """The ascending list of the starts and of the must lines that hold what they could take, and so on.
+
+    The starts are some of the must lines that pair_musts has left over. The lines of the other gate that fit at least
+    one of the rivals are fewer than the rivals, just by the number of the starts.
+    """
+    must = {number: True for number in musts}
+    found = {}
+    for start in starts:
+        reached = search(fit_lists, must, holders, start)[2]
+        for number in reached:
+            found[number] = True
+    return sorted(found)
 
 
 def search(fit_lists, must, holders, start):

@@ -110,6 +110,42 @@ def random_line(random, kinds, latest):
     return random.randrange(latest + 1), random.choice([None, *kinds]), plate
 
 
+def busy_logs(count):
+    """Random logs with up to four lines a gate that fit easily, as tuples (kinds, log): most of them have worlds."""
+    random = Random(12)
+    for _ in range(count):
+        kinds = random.choice([{"car": (0, 3)}, {"car": (0, 1), "van": (2, 4)}, {"car": (1, 4), "van": (1, 2)}])
+        many = random.randrange(5)
+        entries = [random_line(random, kinds, 4) for _ in range(many)]
+        exits = [(time + 1, kind, random.choice([None, plate])) for time, kind, plate in entries]
+        random.shuffle(exits)
+        yield kinds, (entries, exits, random.choice([0, 2, "closed"]), random.choice([0, 4, 6, "closed"]))
+
+
+def cars(times, plate=None):
+    """Lines of cars at these times."""
+    return [(time, "car", plate) for time in times]
+
+
+def tight_log(first=0):
+    """A log of 80 lines a gate with one world: entry i fits the exits i and i + 1 only. The travel takes 0 or 1."""
+    times = list(range(first, first + 80))
+    return cars(times), cars(times), "closed", "closed"
+
+
+def shuffled(random, log):
+    """The log with the lines of each gate in another order, and two lists: the old number of each new one."""
+    orders = [random.sample(range(len(lines)), len(lines)) for lines in log[:2]]
+    lines = [[log[place][number] for number in orders[place]] for place in range(2)]
+    return (*lines, *log[2:]), orders
+
+
+def later(log, delay):
+    """The log with all times and floors later by this number."""
+    lines = [[(time + delay, kind, plate) for time, kind, plate in log[place]] for place in range(2)]
+    return (*lines, *(floor if floor == "closed" else floor + delay for floor in log[2:]))
+
+
 def large_logs(count):
     """Random logs with 80 lines a gate, as tuples (kinds, log)."""
     random = Random(4)

@@ -33,6 +33,18 @@ def all_nodes(kind):
     return [node for tree in TREES.values() for node in ast.walk(tree) if isinstance(node, kind)]
 
 
+def is_stored(node):
+    return isinstance(node.ctx, ast.Store)
+
+
+def is_call(node, functions):
+    return isinstance(node, ast.Call) and isinstance(node.func, ast.Name) and node.func.id in functions
+
+
+def is_set(node):
+    return isinstance(node, (ast.Set, ast.SetComp)) or is_call(node, ("set",))
+
+
 class LanguageTest(unittest.TestCase):
     def test_files(self):
         self.assertIn("__init__.py", TEXTS)
@@ -89,9 +101,44 @@ class LanguageTest(unittest.TestCase):
         for node in all_nodes(ast.Constant):
             self.assertNotIsInstance(node.value, (float, complex))
             self.assertNotIn("%", str(node.value))
+        own = {part.name for node in all_nodes(ast.ClassDef) for part in node.body if isinstance(part, ast.FunctionDef)}
         for node in all_nodes(ast.Call):
             if isinstance(node.func, ast.Attribute):
-                self.assertIn(node.func.attr, METHODS)
+                self.assertIn(node.func.attr, METHODS | own)
+
+    def test_methods_and_attributes(self):
+        for node in all_nodes(ast.ClassDef):
+            methods = [part.name for part in node.body if isinstance(part, ast.FunctionDef)]
+            self.assertEqual(len(set(methods)), len(methods), node.name)
+            stored = {part.attr for part in ast.walk(node) if isinstance(part, ast.Attribute) and is_stored(part)}
+            self.assertEqual(stored & set(methods), set(), node.name)
+            self.assertEqual((stored | set(methods)) & (METHODS - {"__init__"}), set(), node.name)
+
+    def test_stars_and_is(self):
+        for node in all_nodes(ast.Call):
+            for part in node.args:
+                self.assertNotIsInstance(part, ast.Starred, ast.unparse(node))
+        for node in all_nodes(ast.Compare):
+            for sign, part in zip(node.ops, node.comparators):
+                if isinstance(sign, (ast.Is, ast.IsNot)):
+                    self.assertIsInstance(part, ast.Constant, ast.unparse(node))
+
+    def test_sets_are_not_kept(self):
+        # A set stands in len, beside an operator between sets, or beside a comparison.
+        for tree in TREES.values():
+            for node in ast.walk(tree):
+                for part in ast.iter_child_nodes(node):
+                    if is_set(part):
+                        plain = isinstance(node, (ast.BinOp, ast.Compare)) or is_call(node, ("len", "sorted"))
+                        self.assertTrue(plain, ast.unparse(node))
+
+    def test_imports_go_one_way(self):
+        above = {name: {node.module.split(".")[1] + ".py" for node in ast.walk(tree) if isinstance(node, ast.ImportFrom)}
+                 for name, tree in TREES.items()}
+        while above:
+            ends = [name for name in above if not above[name] & set(above)]
+            self.assertNotEqual(ends, [])
+            above = {name: above[name] for name in above if name not in ends}
 
 
 if __name__ == "__main__":
