@@ -6,8 +6,24 @@ GATES = ("entries", "exits")
 CAR = {"car": (5, 10)}
 # The log that most examples of the document are about.
 LOG = ([(0, "car", None), (2, "car", None)], [(7, "car", None), (12, "car", None)], 0, 12)
+SHORT = {"car": (0, 1)}
 # Between the two kinds there is a gap: nothing travels for 7 to 11.
 GAP = {"van": (12, 14), "bike": (5, 6)}
+
+
+def cars(times, plate=None):
+    """Lines of cars at these times."""
+    return [(time, "car", plate) for time in times]
+
+
+# Logs of cars that travel for 5 to 10.
+WITHOUT_WORLD = [
+    (cars([0]), [], 0, "closed"),
+    ([], cars([5]), "closed", 0),
+    (cars([0, 1]), cars([6]), "closed", "closed"),
+    (cars([0]), cars([6, 7]), "closed", "closed"),
+    (cars([0, 50]), cars([6, 20]), "closed", "closed"),
+]
 
 
 def nest(depth, wrap):
@@ -122,13 +138,8 @@ def busy_logs(count):
         yield kinds, (entries, exits, random.choice([0, 2, "closed"]), random.choice([0, 4, 6, "closed"]))
 
 
-def cars(times, plate=None):
-    """Lines of cars at these times."""
-    return [(time, "car", plate) for time in times]
-
-
 def tight_log(first=0):
-    """A log of 80 lines a gate with one world: entry i fits the exits i and i + 1 only. The travel takes 0 or 1."""
+    """A log of 80 lines a gate with one world. With the kinds SHORT, entry i fits the exits i and i + 1 only."""
     times = list(range(first, first + 80))
     return cars(times), cars(times), "closed", "closed"
 

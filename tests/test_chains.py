@@ -103,7 +103,8 @@ class IsChainTest(Case):
     def test_tables_are_kinds_tables(self):
         eight = {name: (0, 1) for name in "abcdefgh"}
         self.check_chains(True, ([eight, eight], [[], [], []], 0, 0))
-        for wrong in ({**eight, "i": (0, 1)}, {}, {"car": (5, 4)}, {"Car": (5, 10)}, {"car": [5, 10]}, {"car": (True, 1)}):
+        wrong_tables = [{**eight, "i": (0, 1)}, {}, {"car": (5, 4)}, {"Car": (5, 10)}, {"car": [5, 10]}]
+        for wrong in [*wrong_tables, {"car": (True, 1)}]:
             self.check_chains(False, ([wrong, wrong], [[], [], []], 0, 0))
             self.check_chains(False, ([{"car": (1, 2)}, wrong], [[], [], []], 0, 0))
             self.check_chains(False, ([wrong, {"car": (1, 2)}], [[], [], []], 0, 0))
@@ -117,8 +118,9 @@ class IsChainTest(Case):
 
     def test_lines(self):
         right = [(0, "car"), (10 ** 9, "car")]
-        wrong = [(0, "car", None), (0,), (), [0, "car"], (-1, "car"), (10 ** 9 + 1, "car"), (True, "car"), (False, None)]
-        wrong += [(0, "van"), (0, ""), (0, ["car"]), (0, True), (0, 0), (None, "car"), ("0", "car"), ("car", 0), None, 0, "ab"]
+        wrong = [(0, "car", None), (0,), (), [0, "car"], (-1, "car"), (10 ** 9 + 1, "car"), (True, "car")]
+        wrong += [(False, None), (0, "van"), (0, ""), (0, ["car"]), (0, True), (0, 0), (None, "car"), ("0", "car")]
+        wrong += [("car", 0), None, 0, "ab"]
         for place in range(3):
             for line in [*right, *wrong]:
                 for lines in ([line], [(1, "car"), line], [line, (1, "car")]):
@@ -135,8 +137,9 @@ class IsChainTest(Case):
     def test_forms(self):
         tables, gates, first, last = CHAIN
         wrong = [list(CHAIN), CHAIN[:3], (*CHAIN, "closed"), (gates, tables, first, last), (), (CHAIN,), [CHAIN]]
-        wrong += [(tuple(tables), gates, first, last), (tables, tuple(gates), first, last), (tables[0], gates, first, last)]
-        wrong += [(tables, [tuple(gate) for gate in gates], first, last), (tables, gates[0], first, last)]
+        wrong += [(tuple(tables), gates, first, last), (tables, tuple(gates), first, last)]
+        wrong += [(tables[0], gates, first, last), (tables, gates[0], first, last)]
+        wrong += [(tables, [tuple(gate) for gate in gates], first, last)]
         wrong += [(tables, [*gates[:2], None], first, last), (tables, [[gate] for gate in gates], first, last)]
         wrong += [(tables, {0: gates}, first, last), ({0: tables}, gates, first, last), (None, None, None, None)]
         self.check_chains(False, *wrong)
@@ -145,8 +148,8 @@ class IsChainTest(Case):
         self.check_chains(False, *ODD)
 
     def test_values_that_are_wrong_in_one_part(self):
-        # The odd values that may stand there: the travel times (0, 0), the shortest ones 0 and 1, the times 0, 1 and 10**9,
-        # the kind "car", the kind None at an end, and the floors 0, 1, 10**9 and "closed".
+        # The odd values that may stand there: the travel times (0, 0), the shortest ones 0 and 1, the times 0, 1 and
+        # 10**9, the kind "car", the kind None at an end, and the floors 0, 1, 10**9 and "closed".
         right = [value for value in spoilt(CHAIN) if is_chain(value)]
         self.assertEqual(len(right), 2 * (1 + 2) + 6 * (3 + 1) + 4 + 2 * 4)
         # Nothing has changed if the time 0 is 0, if a kind is "car", or if a floor is "closed".
@@ -184,7 +187,7 @@ class SegmentsTest(Case):
 
 class WaysTest(Case):
     def decide(self, chain, first, last):
-        """The verdict on the two lines, checked by the words of the document as far as this does not take all worlds."""
+        """The verdict on the two lines. All of it is checked that can be seen without the list of all worlds."""
         found = self.result(way_verdict, chain, first, last)
         parts = segments(chain)
         if found[0] == "certain":
@@ -241,7 +244,8 @@ class WaysTest(Case):
         # The two last vehicles cannot be told apart, which does not touch the first one.
         chain = car_chain([[0, 50, 50], [7, 57, 57], [14, 64, 64]])
         self.assertEqual(self.decide(chain, 0, 0), ("certain", (0, 0, 0)))
-        self.assertEqual([self.decide(chain, 1, last)[0] for last in range(3)], ["impossible", "undecided", "undecided"])
+        words = [self.decide(chain, 1, last)[0] for last in range(3)]
+        self.assertEqual(words, ["impossible", "undecided", "undecided"])
         self.assertEqual(certain_ways(chain), [(0, 0, 0)])
 
     def test_certain_in_one_segment_and_undecided_in_another_one(self):

@@ -88,7 +88,8 @@ class IsExtensionTest(Case):
                 return (lines, [], 0, 0) if gate == 0 else ([], lines, 0, 0)
             self.check(is_extension, True, log([first, second]), log([first, second, third]))
             wrong = [[third, first, second], [first, third, second], [second, first], [second, first, third]]
-            wrong += [[first], [second], [], [third], [first, third], [first, (2, "car", "A")], [first, (2, None, None)]]
+            wrong += [[first], [second], [], [third], [first, third]]
+            wrong += [[first, (2, "car", "A")], [first, (2, None, None)]]
             for lines in wrong:
                 self.check(is_extension, False, log([first, second]), log(lines))
             self.check(is_extension, True, log([first, first]), log([first, first, first]))

@@ -133,8 +133,10 @@ class LanguageTest(unittest.TestCase):
                         self.assertTrue(plain, ast.unparse(node))
 
     def test_imports_go_one_way(self):
-        above = {name: {node.module.split(".")[1] + ".py" for node in ast.walk(tree) if isinstance(node, ast.ImportFrom)}
-                 for name, tree in TREES.items()}
+        above = {}
+        for name, tree in TREES.items():
+            imports = [node for node in ast.walk(tree) if isinstance(node, ast.ImportFrom)]
+            above[name] = {node.module.split(".")[1] + ".py" for node in imports}
         while above:
             ends = [name for name in above if not above[name] & set(above)]
             self.assertNotEqual(ends, [])

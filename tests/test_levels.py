@@ -6,8 +6,21 @@ from gatepairs.errors import Contradiction
 from gatepairs.levels import is_level_table, is_sharp, level_table
 from tests import reference
 from tests.case import Case
-from tests.samples import CAR, LOG, ODD, busy_logs, cars, large_logs, later, shuffled, small_logs, spoilt, tight_log
-from tests.test_verdicts import SHORT, WITHOUT_WORLD
+from tests.samples import (
+    CAR,
+    LOG,
+    ODD,
+    SHORT,
+    WITHOUT_WORLD,
+    busy_logs,
+    cars,
+    large_logs,
+    later,
+    shuffled,
+    small_logs,
+    spoilt,
+    tight_log,
+)
 
 TOP = 10 ** 6
 
@@ -51,7 +64,8 @@ class FindTest(LevelTest):
         for floors in product((0, 10 ** 9, "closed"), repeat=2):
             log = ([], [], *floors)
             self.check_both(True, CAR, log, self.result(level_table, CAR, log), ([], [], [], 0), ([], [], [], TOP))
-            self.check_both(False, CAR, log, ([], [], [], TOP + 1), ([], [], [], -1), ([], [0], [], 0), ([], [], [0], 0))
+            self.check_both(False, CAR, log, ([], [], [], TOP + 1), ([], [], [], -1))
+            self.check_both(False, CAR, log, ([], [0], [], 0), ([], [], [0], 0))
 
     def test_one_world_of_many_lines(self):
         found = self.result(level_table, SHORT, tight_log())
@@ -141,7 +155,7 @@ class JudgeTest(LevelTest):
         world = [(0, 1), (1, 0)]
         self.check_both(True, CAR, log, (world, [8, 7], [7, 8], 9))
         self.check_both(False, CAR, log, (world, [7, 8], [8, 7], 9))
-        # An entry that may be open is on no lower level than the outside, and an exit that may be open on no higher one.
+        # An entry that may be open is on no lower level than the outside, and an exit that may be is on no higher one.
         log = (cars([10]), cars([16]), 12, 0)
         self.check_both(True, CAR, log, ([(0, 0)], [8], [8], 7))
         self.check_both(False, CAR, log, ([(0, 0)], [8], [8], 9))
@@ -167,7 +181,8 @@ class JudgeTest(LevelTest):
     def test_other_worlds(self):
         levels = [1, 3], [1, 3], 3
         self.check_both(True, CAR, LOG, ([(0, 0)], *levels), ([(0, 0), (1, 1)], *levels))
-        wrong = [[], [(1, 1)], [(0, 1)], [(0, 0), (0, 0)], [(1, 1), (0, 0)], [[0, 0]], ((0, 0),), [(False, 0)], None, {}]
+        wrong = [[], [(1, 1)], [(0, 1)], [(0, 0), (0, 0)], [(1, 1), (0, 0)], [[0, 0]], ((0, 0),), [(False, 0)]]
+        wrong += [None, {}]
         self.check_both(False, CAR, LOG, *[(world, *levels) for world in wrong])
 
     def test_forms(self):

@@ -7,12 +7,24 @@ from gatepairs.listing import all_worlds, is_ordered, ordered_world
 from gatepairs.worlds import find_world, is_world
 from tests import reference
 from tests.case import Case
-from tests.samples import CAR, LOG, busy_logs, cars, large_logs, later, same, shuffled, small_logs, tight_log
-from tests.test_verdicts import SHORT, WITHOUT_WORLD
+from tests.samples import (
+    CAR,
+    LOG,
+    SHORT,
+    WITHOUT_WORLD,
+    busy_logs,
+    cars,
+    large_logs,
+    later,
+    same,
+    shuffled,
+    small_logs,
+    tight_log,
+)
 
 
 def twins(many):
-    """A log with two worlds for each of this many pairs of cars, which are far from each other. Both gates are closed."""
+    """A log with two worlds for each of this many pairs of cars that are far from each other. The gates are closed."""
     times = [100 * (number // 2) for number in range(2 * many)]
     return cars(times), cars([time + 7 for time in times]), "closed", "closed"
 
@@ -150,8 +162,8 @@ class AllWorldsTest(Case):
                 worlds = all_worlds(kinds, log)
                 self.assertEqual(all_worlds(kinds, later(log, 700)), worlds)
                 other, (entries, exits) = shuffled(random, log)
-                moved = [sorted((entries.index(entry), exits.index(leaving)) for entry, leaving in world) for world in worlds]
-                self.assertEqual(all_worlds(kinds, other), sorted(moved))
+                moved = [[(entries.index(entry), exits.index(leaving)) for entry, leaving in world] for world in worlds]
+                self.assertEqual(all_worlds(kinds, other), sorted(sorted(world) for world in moved))
 
 
 class OrderTest(Case):
@@ -186,9 +198,9 @@ class OrderTest(Case):
             if number % 3 == 0:
                 kinds["van"] = (50, 60)
             names = ["car"] if "van" in kinds else ["car", None]
-            lines = [[(random.randrange(5), random.choice(names), None) for _ in range(random.randrange(5))] for _ in "xy"]
-            exits = [(time + 3, name, None) for time, name, _ in lines[1]]
-            log = (lines[0], exits, random.choice([0, 2, "closed"]), random.choice([0, 5, "closed"]))
+            entries = [(random.randrange(5), random.choice(names), None) for _ in range(random.randrange(5))]
+            exits = [(3 + random.randrange(5), random.choice(names), None) for _ in range(random.randrange(5))]
+            log = (entries, exits, random.choice([0, 2, "closed"]), random.choice([0, 5, "closed"]))
             for world in reference.worlds(kinds, log):
                 expected = self.is_ordered_by_the_words(log, world)
                 self.check(is_ordered, expected, log, world)

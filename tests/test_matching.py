@@ -50,7 +50,8 @@ class MatchingTest(unittest.TestCase):
         results = []
         for _ in range(3000):
             size = random.randrange(5)
-            fit_lists = [[other for other in range(size) if random.randrange(3) == 0] for _ in range(random.randrange(6))]
+            many = random.randrange(6)
+            fit_lists = [[other for other in range(size) if random.randrange(3) == 0] for _ in range(many)]
             musts = [number for number in range(len(fit_lists)) if random.randrange(3)]
             left_over = self.check(fit_lists, musts, *partly_paired(random, fit_lists, size))
             self.assertEqual(len(left_over), max(self.lacking(fit_lists, numbers) for numbers in subsets(musts)))

