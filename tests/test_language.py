@@ -45,6 +45,12 @@ def is_set(node):
     return isinstance(node, (ast.Set, ast.SetComp)) or is_call(node, ("set",))
 
 
+def defined_names(tree):
+    """The names that the file itself binds at module level, without its imports."""
+    names = {part.name for part in tree.body if isinstance(part, (ast.FunctionDef, ast.ClassDef))}
+    return names | {part.targets[0].id for part in tree.body if isinstance(part, ast.Assign)}
+
+
 class LanguageTest(unittest.TestCase):
     def test_files(self):
         self.assertIn("__init__.py", TEXTS)
@@ -73,7 +79,7 @@ class LanguageTest(unittest.TestCase):
     def test_imports(self):
         for node in all_nodes(ast.ImportFrom):
             self.assertRegex(node.module, "^gatepairs[.][a-z]+$")
-            defined = {getattr(part, "name", None) for part in TREES[node.module.split(".")[1] + ".py"].body}
+            defined = defined_names(TREES[node.module.split(".")[1] + ".py"])
             for part in node.names:
                 self.assertIsNone(part.asname)
                 self.assertIn(part.name, defined)
