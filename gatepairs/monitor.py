@@ -1,12 +1,10 @@
 """Monitors: they follow a growing log and report each pair as soon as it is certain."""
 
-from gatepairs.errors import Contradiction, GateFull, LateLine, LowerFloor, UnknownLine
-from gatepairs.extensions import is_not_lower
+from gatepairs.errors import Contradiction, UnknownLine
+from gatepairs.keeping import copy_of_lists, log_of, refuse_floor, refuse_line, with_item
 from gatepairs.nets import net_of
 from gatepairs.verdicts import certain_pairs, line_verdict, possible_pairs
 from gatepairs.worlds import find_world, world_or_excess
-
-MOST_LINES = 40
 
 
 class Monitor:
@@ -36,10 +34,7 @@ class Monitor:
 
     def add_line(self, gate, line):
         """Log a line of the gate and return its number."""
-        if not is_not_lower(line[0], self.floors[gate]):
-            raise LateLine(line[0])
-        if len(self.lines[gate]) >= MOST_LINES:
-            raise GateFull(gate)
+        refuse_line(gate, self.lines[gate], self.floors[gate], line[0])
         number = self.counts[gate]
         lines = with_item(self.lines, gate, self.lines[gate] + [line])
         numbers = with_item(self.numbers, gate, self.numbers[gate] + [number])
@@ -51,8 +46,7 @@ class Monitor:
 
     def raise_floor(self, gate, floor):
         """Set the floor of the gate to an integer. Raises LowerFloor or Contradiction."""
-        if not is_not_lower(floor, self.floors[gate]):
-            raise LowerFloor(floor)
+        refuse_floor(self.floors[gate], floor)
         self.set_floor(gate, floor)
 
     def close(self, gate):
@@ -110,22 +104,10 @@ class Monitor:
     def fork(self):
         """A new monitor with the same state."""
         other = Monitor(self.kinds, start=log_of(self.lines, self.floors))
-        other.numbers = {gate: list(self.numbers[gate]) for gate in self.numbers}
+        other.numbers = copy_of_lists(self.numbers)
         other.counts = {gate: self.counts[gate] for gate in self.counts}
         other.reported = {pair: True for pair in self.reported}
         return other
-
-
-def with_item(table, key, value):
-    """A copy of the table with this value for the key."""
-    changed = {other: table[other] for other in table}
-    changed[key] = value
-    return changed
-
-
-def log_of(lines, floors):
-    """A new log with these lines and floors, which are given by gate."""
-    return list(lines["entries"]), list(lines["exits"]), floors["entries"], floors["exits"]
 
 
 def refuse_contradiction(kinds, log, numbers):
